@@ -1,0 +1,1 @@
+"""Systems of which one row alone bars every empty box."""

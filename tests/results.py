@@ -1,0 +1,100 @@
+"""Print what many calls return, so that the results of two Pythons can be compared line by line."""
+
+from rowalone import bars, boxes, eliminations, equations, fractions, nets, papers, systems, texts, webs
+from tests.helpers import Dice, NAMES, any_box, any_fraction, any_numbers, any_row, any_system, odd_values
+
+
+def shown(value):
+    """A result as text, with the attributes of objects; dicts in their order."""
+    if isinstance(value, (systems.System, nets.Net)):
+        return f"{type(value).__name__}{sorted(vars(value).items())!r}"
+    return repr(value)
+
+
+def tell(call, *values):
+    try:
+        result = shown(call(*values))
+    except ValueError as error:
+        result = f"{type(error).__name__} {sorted(vars(error).items())!r}"
+    print(call.__module__, call.__name__, result)
+
+
+def tell_values():
+    system = any_system(Dice(1), 2, 3, 2, 2)
+    for value in odd_values():
+        tell(fractions.is_fraction, value)
+        tell(boxes.check_box, system, value)
+        tell(boxes.check_point, system, value)
+        tell(webs.is_web_ring, system, value)
+        tell(papers.check_combination, system, value)
+        tell(systems.System, value, value)
+        tell(systems.System, ("x",), value)
+        tell(nets.Net, ("x",), value, value)
+        tell(texts.read_system, value)
+
+
+def tell_rows(dice, size):
+    one, other = any_row(dice, size, 3, 4), any_row(dice, size, 3, 4)
+    box, at = any_box(dice, size, 4), dice.below(size)
+    for call in (systems.follows, systems.parting_point, eliminations.unlike, eliminations.clash):
+        tell(call, one, other)
+    tell(eliminations.eliminated, one, other, at)
+    for call in (bars.top, bars.bottom, bars.top_point, bars.bars_box, bars.narrowed):
+        tell(call, one, box)
+    tell(bars.told_by, one, box, at)
+    tell(texts.show_row, NAMES[:size], one)
+
+
+def tell_system(dice, size):
+    system, box = any_system(dice, size, dice.between(0, 9), dice.pick((1, 3, 10 ** 6)), 4), any_box(dice, size, 4)
+    row, numbers = any_row(dice, size, 2, 2), any_numbers(dice, len(system.rows), 5)
+    for call in (webs.web, webs.web_ring, webs.sweep, eliminations.eliminations, texts.show_system,
+                 equations.is_equal, equations.least_lots, boxes.free_box):
+        tell(call, system)
+    for call in (bars.barring, bars.told, bars.reasons, bars.crossing, papers.point_or_paper):
+        tell(call, system, box)
+    word, found = papers.point_or_paper(system, box)
+    if word == "paper":
+        tell(papers.shortened, system, box, found)
+    tell(papers.combined, system, numbers)
+    tell(papers.cancelled, system, numbers)
+    tell(papers.plain_sum, system, row)
+    tell(papers.ends_without, system, row)
+    tell(systems.turned, system, "a")
+    tell(systems.scaled, system, "a", (3, 2))
+    tell(boxes.halves, box, 0, any_fraction(dice, 4))
+    tell(fractions.simplest, *box[0])
+
+
+def tell_equations_and_nets(dice, size):
+    rows = tuple(any_row(dice, size, 2, 2) for _ in range(dice.between(0, 3)))
+    tell(equations.equal_system, NAMES[:size], rows)
+    system = equations.equal_system(NAMES[:size], rows)
+    tell(equations.least_lots, system)
+    tell(equations.least_equations, system)
+    tell(equations.is_free, system, (0,))
+    nodes = dice.between(1, 7)
+    lines = tuple((dice.below(nodes), dice.below(nodes)) for _ in range(size))
+    net = nets.Net(NAMES[:size], lines, tuple((-dice.below(3), dice.below(3)) for _ in range(nodes)))
+    prices = tuple(any_fraction(dice, 3) for _ in range(nodes))
+    tell(nets.flow_system, net)
+    tell(nets.joined_parts, net, tuple(node for node in range(nodes) if dice.chance(1, 2)))
+    tell(nets.cut_row, net, (0,), dice.below(2))
+    tell(nets.price_row, net, prices)
+    tell(nets.price_parts, prices)
+    tell(nets.lacking, net, 0)
+    tell(nets.shrunk, net, 0)
+
+
+def main():
+    tell_values()
+    dice = Dice(7)
+    for _ in range(200):
+        size = dice.between(1, 6)
+        tell_rows(dice, size)
+        tell_system(dice, size)
+        tell_equations_and_nets(dice, size)
+
+
+if __name__ == "__main__":
+    main()

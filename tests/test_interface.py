@@ -1,0 +1,81 @@
+"""The interface: names, parameters and defaults, and in which file each is defined."""
+
+import ast
+import importlib
+import inspect
+import os
+import unittest
+
+from rowalone.systems import System
+
+FOLDER = os.path.join(os.path.dirname(os.path.dirname(os.path.abspath(__file__))), "rowalone")
+FUNCTIONS = {
+    "fractions": """fraction_of(top, bottom); is_fraction(value); plus(one, other); minus(one, other);
+        times(one, other); ratio(one, other); less(one, other); least_of(some); greatest_of(some);
+        simplest(low, high); weighed(coefficients, point)""",
+    "webs": "web(system); web_ring(system); is_web_ring(system, value); sweep(system)",
+    "boxes": """check_box(system, value); check_point(system, value); free_box(system); point_box(point);
+        in_box(point, box); within(box, other); common_box(box, other); joined_box(box, other); box_ends(box);
+        only_ends(box, ends); placed(box, at, value); halves(box, at, value)""",
+    "systems": """least_form(coefficients, bound); row_of(coefficients, bound); follows(one, other);
+        parting_point(one, other); system_of(names, rows); renamed(system, names); turned(system, name);
+        scaled(system, name, factor)""",
+    "bars": """row_sum(row, point); keeps(row, point); holds(system, point); top(row, box); bottom(row, box);
+        top_point(row, box); bars_box(row, box); used_ends(row); barring(system, box); told_by(row, box, at);
+        narrowed(row, box); told(system, box); reasons(system, box); crossing(system, box)""",
+    "eliminations": "unlike(one, other); eliminated(one, other, at); clash(one, other); eliminations(system)",
+    "equations": """is_equal(system); equal_system(names, rows); least_lots(system); least_equations(system);
+        is_free(system, lot)""",
+    "nets": """gains(net, point); is_flow(net, box, value); flow_system(net); joined_parts(net, some);
+        cut_row(net, some, side); price_row(net, prices); price_parts(prices); lacking(net, at); shrunk(net, at)""",
+    "papers": """check_combination(system, value); combined(system, numbers); cancelled(system, numbers);
+        check_paper(system, box, value); point_or_paper(system, box); shortened(system, box, paper);
+        plain_sum(system, row); check_plain(system, row, value); ends_without(system, row)""",
+    "texts": "read_system(text, names=()); show_row(names, row); show_system(system)",
+}
+CLASSES = {
+    "errors": {"InvalidSystem": "(at)", "InvalidText": "(at)", "InvalidBox": "(at)", "InvalidPoint": "(at)",
+               "InvalidPaper": "(at)", "InvalidNumber": "(word)", "Refused": "(word)"},
+    "systems": {"System": "(names, rows)"},
+    "nets": {"Net": "(names, lines, needs)"},
+}
+
+
+class Interface(unittest.TestCase):
+
+    def defined(self, module):
+        """The names of the functions and classes that a file defines at module level."""
+        with open(os.path.join(FOLDER, module + ".py"), encoding="utf-8") as file:
+            tree = ast.parse(file.read())
+        return {node.name for node in tree.body if isinstance(node, (ast.FunctionDef, ast.ClassDef))}
+
+    def test_functions(self):
+        for module, line in FUNCTIONS.items():
+            for call in line.split(";"):
+                name, _, parameters = call.strip().partition("(")
+                function = getattr(importlib.import_module("rowalone." + module), name)
+                self.assertIn(name, self.defined(module))
+                self.assertEqual(str(inspect.signature(function)), "(" + parameters)
+
+    def test_classes(self):
+        for module, classes in CLASSES.items():
+            for name, parameters in classes.items():
+                kind = getattr(importlib.import_module("rowalone." + module), name)
+                self.assertIn(name, self.defined(module))
+                self.assertEqual(str(inspect.signature(kind)), parameters)
+                self.assertIn("__init__", vars(kind))
+        self.assertIn("RowError", self.defined("errors"))
+
+    def test_no_class_is_derived_from_another_one(self):
+        for name in sorted(os.listdir(FOLDER)):
+            if name.endswith(".py") and name != "errors.py":
+                with open(os.path.join(FOLDER, name), encoding="utf-8") as file:
+                    for node in ast.walk(ast.parse(file.read())):
+                        self.assertFalse(isinstance(node, ast.ClassDef) and node.bases)
+
+    def test_equality_is_the_class_own(self):
+        self.assertIn("__eq__", vars(System))
+
+
+if __name__ == "__main__":
+    unittest.main()
