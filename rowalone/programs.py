@@ -4,22 +4,22 @@ from rowalone.fractions import fraction_of
 
 
 class Table:
-    """Rows as sums of as many of them as there are unknowns.
+    """Rows, and the sum that is asked for, as sums of as many rows as there are unknowns.
 
     Label k from 0 on stands for what row k has above its bound, which is never below 0 at
-    points that keep the row; label k below 0 stands for the unknown `size` + k, and the
-    label None for the sum that is asked for. Each line of `lines` is what its label in
-    `basic` is, times `scale`: integers for the labels in `free`, and one more alone. The
-    point of the table has 0 for all labels in `free`.
+    points that keep the row; label k below 0 stands for the unknown `size` + k. Each line
+    of `lines` is what its label in `basic` is, and `goal` what is asked for, times `scale`:
+    an integer for each label in `free`, and one more alone. The point of the table has 0
+    for all labels in `free`.
     """
 
     def __init__(self, size, rows, goal):
         self.size = size
         self.many = len(rows)
         self.free = [at - size for at in range(size)]
-        self.basic = list(range(len(rows))) + [None]
+        self.basic = list(range(len(rows)))
         self.lines = [[*coefficients, -bound] for coefficients, bound in rows]
-        self.lines.append([*goal, 0])
+        self.goal = [*goal, 0]
         self.scale = 1
 
     def exchange(self, line, column):
@@ -29,6 +29,7 @@ class Table:
         lines = [self._exchanged(numbers, pivots, column, sign) for numbers in self.lines]
         lines[line] = [-sign * number for number in pivots]
         lines[line][column] = sign * self.scale
+        self.goal = self._exchanged(self.goal, pivots, column, sign)
         self.lines = lines
         self.scale = sign * pivots[column]
         self.basic[line], self.free[column] = self.free[column], self.basic[line]
@@ -53,7 +54,7 @@ class Table:
     def _line_with(self, column):
         """The line of the first row with a number in a column, None if there is none."""
         for line, label in enumerate(self.basic):
-            if label is not None and label >= 0 and self.lines[line][column] != 0:
+            if label >= 0 and self.lines[line][column] != 0:
                 return line
         return None
 
@@ -61,16 +62,16 @@ class Table:
         """The line of the first row that the point does not keep, None if there is none."""
         found = None
         for line, label in enumerate(self.basic):
-            if label is not None and label >= 0 and self.lines[line][-1] < 0:
+            if label >= 0 and self.lines[line][-1] < 0:
                 if found is None or label < self.basic[found]:
                     found = line
         return found
 
-    def first_column(self, line, sign):
-        """The column with the first label for a row and a number of this sign in a line."""
+    def first_column(self, numbers, sign):
+        """The column of the first row with a number of this sign in a line, None if there is none."""
         found = None
         for column, label in enumerate(self.free):
-            if label >= 0 and sign * self.lines[line][column] > 0:
+            if label >= 0 and sign * numbers[column] > 0:
                 if found is None or label < self.free[found]:
                     found = column
         return found
@@ -79,7 +80,7 @@ class Table:
         """The line of the row that is first broken if a column grows, None if none is."""
         found = None
         for line, label in enumerate(self.basic):
-            if label is not None and label >= 0 and self.lines[line][column] < 0:
+            if label >= 0 and self.lines[line][column] < 0:
                 if found is None or self._is_before(line, found, column):
                     found = line
         return found
@@ -95,17 +96,17 @@ class Table:
         """The point of the table."""
         point = [(0, 1)] * self.size
         for line, label in enumerate(self.basic):
-            if label is not None and label < 0:
+            if label < 0:
                 # A label below 0 is also the place of its unknown, counted from the end.
                 point[label] = fraction_of(self.lines[line][-1], self.scale)
         return tuple(point)
 
-    def shares(self, line, sign):
+    def shares(self, numbers, sign):
         """For each row the number that its column has in a line, times a sign, as a fraction."""
         found = [(0, 1)] * self.many
         for column, label in enumerate(self.free):
             if label >= 0:
-                found[label] = fraction_of(sign * self.lines[line][column], self.scale)
+                found[label] = fraction_of(sign * numbers[column], self.scale)
         return found
 
 
@@ -127,12 +128,12 @@ def least_over(size, rows, goal):
     if line is not None:
         return ("none", None, _broken_shares(table, line))
     for column, label in enumerate(table.free):
-        if label < 0 and table.lines[-1][column] != 0:
+        if label < 0 and table.goal[column] != 0:
             return ("endless", table.point(), None)
     while True:
-        column = table.first_column(-1, -1)
+        column = table.first_column(table.goal, -1)
         if column is None:
-            return ("least", table.point(), tuple(table.shares(-1, 1)))
+            return ("least", table.point(), tuple(table.shares(table.goal, 1)))
         line = table.tight_line(column)
         if line is None:
             return ("endless", table.point(), None)
@@ -149,7 +150,7 @@ def _make_kept(table):
         line = table.broken_line()
         if line is None:
             return None
-        column = table.first_column(line, 1)
+        column = table.first_column(table.lines[line], 1)
         if column is None:
             return line
         table.exchange(line, column)
@@ -157,6 +158,6 @@ def _make_kept(table):
 
 def _broken_shares(table, line):
     """The fractions with which rows sum to what no point keeps."""
-    shares = table.shares(line, -1)
+    shares = table.shares(table.lines[line], -1)
     shares[table.basic[line]] = (1, 1)
     return tuple(shares)

@@ -148,6 +148,17 @@ class Rings(unittest.TestCase):
                       ((0, 0), ([], [])), ((0, 0), 5), ("ab", "cd")):
             self.assertIs(is_web_ring(system, value), False, value)
 
+    def test_no_unknown_and_no_row_twice(self):
+        system = System(("x", "y", "z"), (((0, 1, 1), 0), ((1, 1, 0), 0), ((1, 2, 0), 0), ((1, 3, 0), 0), ((1, 4, 0), 0),
+                                          ((1, 5, 5), 0)))
+        self.assertTrue(is_web_ring(system, ((0, 1), (1, 2))))
+        # Each row has its own unknown and the next one, but unknowns, rows or both occur twice.
+        self.assertIs(is_web_ring(system, ((0, 1), (1, 2), (0, 3), (1, 4))), False)
+        self.assertIs(is_web_ring(system, ((0, 5), (1, 0), (2, 5))), False)
+        self.assertIs(is_web_ring(system, ((0, 1), (1, 1))), False)
+        self.assertIs(is_web_ring(system, ((0, 1), (1, 2), (0, 1), (1, 2))), False)
+        self.assertTrue(is_web_ring(system, ((0, 1), (1, 0), (2, 5))))
+
     def test_systems_without_rows(self):
         for value in odd_values() + [((0, 0), (1, 1))]:
             self.assertIs(is_web_ring(System(("x", "y"), ()), value), False)
@@ -172,6 +183,31 @@ class Sweeps(unittest.TestCase):
             for number in numbers:
                 self.assertIn(number, range(len(system.rows)))
                 self.assertLessEqual(numbers.count(number), 2)
+
+    def test_long_chains_in_any_order(self):
+        # What one end of a chain of all unknowns leaves is told to the other end, and back.
+        dice = Dice(34)
+        for _ in range(60):
+            order, left = [], list(range(6))
+            while left:
+                order.append(left.pop(dice.below(len(left))))
+            rows = []
+            for one, other in zip(order, order[1:]):
+                numbers = [0] * 6
+                numbers[one], numbers[other] = 1, -1
+                rows += [(tuple(numbers), 1)]
+            system = system_of(NAMES, tuple(rows))
+            for at, side in ((0, 1), (5, 0), (2, 0), (3, 1)):
+                box = [(None, None)] * 6
+                box[order[at]] = ((None, (0, 1)), ((0, 1), None))[1 - side]
+                expected = list(box)
+                # Each unknown is at least the next one plus 1.
+                for near, value in enumerate(order):
+                    if side == 0 and near <= at:
+                        expected[value] = ((at - near, 1), None)
+                    if side == 1 and near >= at:
+                        expected[value] = (None, (at - near, 1))
+                self.assertEqual(run(system, tuple(box), sweep(system)), tuple(expected))
 
     def test_the_run_of_a_sweep_and_passes_without_a_ring(self):
         dice = Dice(33)
