@@ -31,8 +31,12 @@ def read_system(text, names=()):
     if not found:
         raise InvalidText(0)
     lot = tuple(sorted(found))
-    rows = [(tuple([sign * terms.get(name, 0) for name in lot]), sign * bound) for terms, sign, bound in told]
-    return system_of(lot, tuple(rows))
+    return system_of(lot, tuple([_row_over(lot, terms, sign, bound) for terms, sign, bound in told]))
+
+
+def _row_over(lot, terms, sign, bound):
+    """The row of terms and a bound, both times a sign, over a lot of names."""
+    return (tuple([sign * terms.get(name, 0) for name in lot]), sign * bound)
 
 
 def _signs_of(relation):

@@ -52,10 +52,8 @@ def is_web_ring(system, value):
     if len(set(unknowns)) < len(value) or len(set(rows)) < len(value):
         return False
     lots = web(system)
-    for at, row in enumerate(rows):
-        if unknowns[at] not in lots[row] or unknowns[at - len(value) + 1] not in lots[row]:
-            return False
-    return True
+    following = unknowns[1:] + unknowns[:1]
+    return all([one in lots[row] and other in lots[row] for one, other, row in zip(unknowns, following, rows)])
 
 
 def _is_place(system, value):

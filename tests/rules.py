@@ -316,6 +316,7 @@ class Checker:
                 self.tell(file, node, "L7", "comprehension")
             if not file.inside(node, ast.FunctionDef):
                 self.tell(file, node, "L7", "comprehension at module level")
+            self.check_nested(file, node)
         if isinstance(node, ast.GeneratorExp):
             call = file.above[node]
             name = call.func.id if isinstance(call, ast.Call) and isinstance(call.func, ast.Name) else ""
@@ -336,6 +337,22 @@ class Checker:
             if [one for one in ast.walk(node.value) if isinstance(one, (ast.JoinedStr, ast.Constant))
                     and not isinstance(getattr(one, "value", 0), int)]:
                 self.tell(file, node, "L27", "string in an f-string")
+
+    def check_nested(self, file, node):
+        """A comprehension inside another one has names of its own."""
+        own = {one.id for part in node.generators for one in ast.walk(part.target) if isinstance(one, ast.Name)}
+        comprehensions = (ast.ListComp, ast.SetComp, ast.DictComp, ast.GeneratorExp)
+        outer = node
+        while outer in file.above and not isinstance(outer, ast.FunctionDef):
+            outer = file.above[outer]
+        if file.inside(node, comprehensions):
+            inner = {id(one) for part in ast.walk(outer) if isinstance(part, comprehensions)
+                     for one in ast.walk(part)}
+            names = {one.id for one in ast.walk(outer) if isinstance(one, ast.Name)
+                     and isinstance(one.ctx, ast.Store) and id(one) not in inner}
+            names |= {one.arg for one in ast.walk(outer) if isinstance(one, ast.arg)}
+            if own & names:
+                self.tell(file, node, "L7", f"names of a comprehension inside another one: {own & names}")
 
     def check_call(self, file, node):
         if not isinstance(node, ast.Call):
