@@ -10,6 +10,8 @@ import re
 import tokenize
 
 PACKAGE = "rowalone"
+# An interactive session, and doctest like one, adds `_` to the builtins.
+PYTHON = set(dir(builtins)) - {"_"}
 LIBRARY = {"math": ("gcd", "lcm", "isqrt", "comb", "perm", "factorial"),
            "itertools": ("product", "combinations", "permutations"),
            "heapq": ("heappush", "heappop", "heapify", "heapreplace", "heappushpop")}
@@ -33,7 +35,7 @@ BARRED_WORDS = set("""type typing typing_extensions enum Enum IntEnum StrEnum Fl
 BARRED_ATTRIBUTES = set("""items keys values pop update append clear extend insert remove reverse setdefault sort args
     encode decode hex fromhex format format_map mro as_integer_ratio bit_count conjugate from_bytes is_integer
     to_bytes real imag numerator denominator""".split())
-BARRED_FILES = set("test tests testing site conftest sitecustomize usercustomize".split()) | set(dir(builtins))
+BARRED_FILES = set("test tests testing site conftest sitecustomize usercustomize".split()) | PYTHON
 
 
 class File:
@@ -216,7 +218,7 @@ class Checker:
                 method = isinstance(node, ast.FunctionDef) and isinstance(file.above[node], ast.ClassDef)
                 if name.startswith("__") and not (method and name in DOUBLE):
                     self.tell(file, node, "L8", name)
-                if name in dir(builtins) and not method:
+                if name in PYTHON and not method:
                     self.tell(file, node, "L15", f"{name} is a builtin")
                 if name in BARRED_NAMES | BARRED or not re.fullmatch(r"_?_?[A-Za-z][A-Za-z0-9_]*|_", name):
                     self.tell(file, node, "L17", name)
@@ -227,7 +229,7 @@ class Checker:
             if isinstance(node, ast.Name) and isinstance(node.ctx, ast.Load):
                 if node.id == "_":
                     self.tell(file, node, "L12", "_ is read")
-                if node.id in dir(builtins) and node.id not in own and node.id not in BUILTINS:
+                if node.id in PYTHON and node.id not in own and node.id not in BUILTINS:
                     self.tell(file, node, "L8", node.id)
 
     def check_statement(self, file, node):
