@@ -39,12 +39,18 @@ def clash(one, other):
 
 def eliminations(system):
     """The lot of all triples of two rows and an unknown that can be eliminated from them."""
+    triples = all_triples(system)
+    if len(triples) > MOST_TRIPLES:
+        raise Refused("wide")
+    return triples
+
+
+def all_triples(system):
+    """The same, however many there are."""
     triples = []
     for one, (coefficients, _) in enumerate(system.rows):
         for other, (others, _) in enumerate(system.rows):
             for at, number in enumerate(coefficients):
                 if number > 0 and others[at] < 0:
                     triples.append((one, other, at))
-    if len(triples) > MOST_TRIPLES:
-        raise Refused("wide")
     return tuple(triples)

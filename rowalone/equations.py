@@ -51,7 +51,7 @@ def _settled_sums(system):
     if not is_equal(system):
         raise Refused("rows")
     rows = [[*coefficients, bound] for coefficients, bound in system.rows]
-    sums = _echelon(rows, tuple(range(len(system.names) + 1)))
+    sums = echelon(rows, tuple(range(len(system.names) + 1)))
     if not all([any(numbers[:-1]) for numbers in sums]):
         raise Refused("none")
     return sums
@@ -73,11 +73,11 @@ def _sums_within(sums, lot):
     if not sums:
         return []
     others = [at for at in range(len(sums[0]) - 1) if at not in lot]
-    rows = _echelon(sums, (*others, *lot))
+    rows = echelon(sums, (*others, *lot))
     return [numbers for numbers in rows if not any([numbers[at] for at in others])]
 
 
-def _echelon(rows, order):
+def echelon(rows, order):
     """Independent combinations of rows of numbers, each without the places before its own one."""
     left = rows
     found = []

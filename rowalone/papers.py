@@ -2,10 +2,11 @@
 
 from rowalone.bars import bars_box
 from rowalone.boxes import check_box
+from rowalone.eliminations import joined_rows
 from rowalone.errors import InvalidPaper
 from rowalone.fractions import is_fraction, less, weighed
 from rowalone.programs import least_over, point_or_shares
-from rowalone.systems import whole_sums
+from rowalone.systems import least_form, whole_sums
 
 
 def check_combination(system, value):
@@ -15,6 +16,15 @@ def check_combination(system, value):
     for at, number in enumerate(value):
         if not is_fraction(number) or number[0] < 0:
             raise InvalidPaper(at)
+
+
+def is_combination(system, value):
+    """Whether any value is a combination."""
+    try:
+        check_combination(system, value)
+    except InvalidPaper:
+        return False
+    return True
 
 
 def used_rows(numbers):
@@ -73,6 +83,12 @@ def end_rows(box):
     return rows
 
 
+def least_in(system, box, coefficients):
+    """The least sum of coefficients at solutions in a box, as `least_over` tells it; of the
+    shares those of the rows of the system come first."""
+    return least_over(len(system.names), [*system.rows, *end_rows(box)], coefficients)
+
+
 def point_or_paper(system, box):
     """Some solution in a box, or some paper for it."""
     check_box(system, box)
@@ -106,9 +122,9 @@ def shortened(system, box, paper):
 
 def plain_sum(system, row):
     """Some plain combination that gives a row and uses few rows, None if there is none."""
-    part = _conforming(system, row)
-    word, point, shares = _least_kept(system, part, row)
-    if word == "endless" or less(weighed(row[0], point), (row[1], 1)):
+    part = _conforming(system.rows, row)
+    word, point, shares = _least_kept(system.rows, part, row)
+    if not _is_reached(word, point, row):
         return None
     numbers = [(0, 1)] * len(system.rows)
     for at, share in zip(part, shares):
@@ -116,21 +132,42 @@ def plain_sum(system, row):
     return tuple(numbers)
 
 
-def _conforming(system, row):
-    """The numbers of the rows whose coefficients are 0 or have the sign that the row has there.
+def is_sum_of(rows, row):
+    """Whether a row is a plain sum of some rows, however many."""
+    word, point, _ = _least_kept(rows, _conforming(rows, row), row)
+    return _is_reached(word, point, row)
+
+
+def elimination_sum(system, triple):
+    """Some plain combination that gives the eliminated row of a triple, None if there is none."""
+    one, other, at = triple
+    coefficients, bound = joined_rows(system.rows[one], system.rows[other], at)
+    row = least_form(coefficients, bound)
+    if row is not None:
+        return plain_sum(system, row)
+    return ((0, 1),) * len(system.rows) if bound <= 0 else None
+
+
+def _conforming(rows, row):
+    """The numbers of the rows whose coefficients are 0 or have the sign that a row has there.
 
     Just these may be used where nothing cancels and the row is given.
     """
     part = []
-    for at, (coefficients, _) in enumerate(system.rows):
+    for at, (coefficients, _) in enumerate(rows):
         if all([one * other > 0 or one == 0 for one, other in zip(coefficients, row[0])]):
             part.append(at)
     return part
 
 
-def _least_kept(system, part, row):
-    """The least sum of a row over the points that keep some rows of the system."""
-    return least_over(len(system.names), [system.rows[at] for at in part], row[0])
+def _least_kept(rows, part, row):
+    """The least sum of a row over the points that keep some of the rows."""
+    return least_over(len(row[0]), [rows[at] for at in part], row[0])
+
+
+def _is_reached(word, point, row):
+    """Whether a least sum, at a point, is at least the bound of a row."""
+    return word == "least" and not less(weighed(row[0], point), (row[1], 1))
 
 
 def check_plain(system, row, value):
@@ -144,9 +181,9 @@ def check_plain(system, row, value):
 
 def ends_without(system, row):
     """Some box that a row bars and no row of the system, None if the row is a plain sum."""
-    part = _conforming(system, row)
-    word, point, _ = _least_kept(system, part, row)
-    if word == "least" and not less(weighed(row[0], point), (row[1], 1)):
+    part = _conforming(system.rows, row)
+    word, point, _ = _least_kept(system.rows, part, row)
+    if _is_reached(word, point, row):
         return None
     if word == "endless":
         # Some point that keeps the rows has a sum below the bound.

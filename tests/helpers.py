@@ -3,6 +3,7 @@
 from fractions import Fraction
 
 from rowalone.fractions import fraction_of, less
+from rowalone.nets import Net
 from rowalone.systems import System, least_form, system_of
 
 NAMES = ("a", "b", "c", "d", "e", "f")
@@ -113,6 +114,20 @@ def any_system(dice, size, many, limit, bound):
     return system_of(NAMES[:size], tuple(any_row(dice, size, limit, bound) for _ in range(many)))
 
 
+def any_net(dice, most=6, limit=3, part=2):
+    """A net with lines from nodes to themselves, double lines and nodes without a line."""
+    size, nodes = dice.between(1, most), dice.between(1, 7)
+    lines = tuple((dice.below(nodes), dice.below(nodes)) for _ in range(size))
+    needs = []
+    for _ in range(nodes):
+        low = dice.between(-limit, limit) if dice.chance(part, 3) else None
+        high = dice.between(-limit, limit) if dice.chance(part, 3) else None
+        if low is not None and high is not None:
+            low, high = min(low, high), max(low, high)
+        needs.append((low, high))
+    return Net(NAMES[:size], lines, tuple(needs))
+
+
 def any_numbers(dice, many, limit, part=5):
     """A combination, each row used with `part` chances of ten."""
     found = []
@@ -164,3 +179,54 @@ def raised(call, *values, **named):
     except ValueError as error:
         return (type(error).__name__, *vars(error).values())
     return None
+
+
+def wrong_boxes(size):
+    """Values that are no box for so many names, each with what `InvalidBox` tells."""
+    free = ((None, None),) * size
+    found = [(value, -1) for value in odd_values() if not isinstance(value, tuple) or len(value) != size]
+    found += [(free[1:], -1), (free + free[:1], -1), (list(free), -1)]
+    crossed = [((1, 1), (0, 1)), ((True, 1), None), (None, (0, 2)), [None, None], (None,), (None, None, None), (0, 1)]
+    for at in range(size):
+        found += [(changed(free, at, item), at) for item in odd_values() + crossed]
+    found.append((changed(changed(free, size - 1, None), 0, None), 0))
+    return found
+
+
+def wrong_combinations(many):
+    """Values that are no combination of so many rows, at least one, each with what `InvalidPaper` tells."""
+    none = ((0, 1),) * many
+    found = [(value, -1) for value in odd_values() if not isinstance(value, tuple) or len(value) != many]
+    found += [(none[1:], -1), (none + none[:1], -1), (list(none), -1)]
+    for at in range(many):
+        found += [(changed(none, at, item), at) for item in odd_values() + no_fractions() + [(-1, 1), (-1, 3)]]
+    found.append((changed(changed(none, many - 1, (-1, 1)), 0, (-1, 1)), 0))
+    return found
+
+
+def given(system, numbers):
+    """What a combination gives, in Python's own fractions."""
+    coefficients = [sum((row[0][at] * frac(number) for row, number in zip(system.rows, numbers)), Fraction(0))
+                    for at in range(len(system.names))]
+    return coefficients, sum((row[1] * frac(number) for row, number in zip(system.rows, numbers)), Fraction(0))
+
+
+def is_plain_in_python(system, numbers):
+    """Whether no name has unlike signs in two used rows."""
+    used = [row[0] for row, number in zip(system.rows, numbers) if number[0] > 0]
+    return not any(min(column) < 0 < max(column) for column in zip(*used))
+
+
+def without(items, at):
+    """A tuple without the item at a place."""
+    return items[:at] + items[at + 1:]
+
+
+def end_with(dice, low, high):
+    """Some fraction between two ends, perhaps one of them."""
+    if low is None and high is None:
+        return any_fraction(dice, 9)
+    if low is None or high is None:
+        end = frac(low if high is None else high)
+        return pair(end + dice.below(4) * (1 if high is None else -1))
+    return pair(frac(low) + (frac(high) - frac(low)) * dice.below(5) / 4)

@@ -1,12 +1,15 @@
 """Print what many calls return, so that the results of two Pythons can be compared line by line."""
 
-from rowalone import bars, boxes, eliminations, equations, fractions, nets, papers, systems, texts, webs
-from tests.helpers import Dice, NAMES, any_box, any_fraction, any_numbers, any_row, any_system, odd_values
+from rowalone import (bars, blame, boxes, changed, court, cuts, differences, eliminations, equations, fractions, nets,
+                      papers, systems, texts, webrings, webs)
+from tests.helpers import Dice, NAMES, any_box, any_fraction, any_net, any_numbers, any_row, any_system, odd_values
 
 
 def shown(value):
     """A result as text, with the attributes of objects; dicts in their order."""
-    if isinstance(value, (systems.System, nets.Net)):
+    if isinstance(value, tuple):
+        return f"({', '.join(map(shown, value))})"
+    if isinstance(value, (systems.System, nets.Net, court.Single, court.Gap)):
         return f"{type(value).__name__}{sorted(vars(value).items())!r}"
     return repr(value)
 
@@ -31,6 +34,11 @@ def tell_values():
         tell(systems.System, ("x",), value)
         tell(nets.Net, ("x",), value, value)
         tell(texts.read_system, value)
+        for verdict in (value, court.Single(value), court.Gap(value, 0, 0, value, value)):
+            tell(court.is_verdict, system, verdict)
+        tell(cuts.is_barring_cut, nets.Net(("x",), ((0, 1),), ((1, 1), (0, 0))), ((None, None),), value)
+        tell(differences.way_arc, systems.System(("x",), (((1,), 0),)), value)
+        tell(changed.made_one, system, "a", value)
 
 
 def tell_rows(dice, size):
@@ -86,6 +94,44 @@ def tell_equations_and_nets(dice, size):
     tell(nets.shrunk, net, 0)
 
 
+def tell_verdicts_and_blame(dice, size):
+    system = any_system(dice, size, dice.between(0, 5), dice.pick((1, 2)), 3)
+    box, end, value = any_box(dice, size, 3, 8), (dice.below(size), dice.below(2)), any_fraction(dice, 3)
+    ends = boxes.box_ends(box)[1:]
+    for call in (court.court, webrings.inexact_example, webrings.unfound_example, webrings.endless_example):
+        tell(call, system)
+    tell(changed.put_in, system, "a", value)
+    tell(changed.doubled, system, "a", "g")
+    tell(changed.made_one, system, "a", "b")
+    tell(changed.lost_at, system, "a")
+    for call in (blame.is_to_blame, blame.shrunk_blame):
+        tell(call, system, box, ends)
+    for call in (blame.all_blames, blame.all_loosenings, blame.row_blames):
+        tell(call, system, box)
+    tell(blame.is_forced, system, box, ends, end, value)
+    for call in (blame.all_forcing, blame.row_forcing):
+        tell(call, system, box, end, value)
+
+
+def tell_cuts_and_differences(dice, size):
+    net = any_net(dice)
+    box = any_box(dice, len(net.names), 3, dice.between(1, 9))
+    tell(cuts.flow_or_cut, net, box)
+    tell(cuts.carried, net, box, 0)
+    tell(cuts.least_flows, net)
+    rows = []
+    for _ in range(dice.between(0, 8)):
+        one, other = dice.below(size + 1), dice.below(size + 1)
+        if one != other:
+            rows.append(differences.arc_row(size, (one, other, any_fraction(dice, 4))))
+    system, box = systems.system_of(NAMES[:size], tuple(rows)), any_box(dice, size, 4, 5)
+    for call in (differences.positive_ring, differences.longest_ways, differences.open_triple,
+                 differences.closed_differences):
+        tell(call, system)
+    tell(differences.barring_way, system, box)
+    tell(differences.least_difference, system, box, 0, size)
+
+
 def main():
     tell_values()
     dice = Dice(7)
@@ -94,6 +140,8 @@ def main():
         tell_rows(dice, size)
         tell_system(dice, size)
         tell_equations_and_nets(dice, size)
+        tell_verdicts_and_blame(dice, size)
+        tell_cuts_and_differences(dice, size)
 
 
 if __name__ == "__main__":

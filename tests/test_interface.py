@@ -32,12 +32,25 @@ FUNCTIONS = {
         check_paper(system, box, value); point_or_paper(system, box); shortened(system, box, paper);
         plain_sum(system, row); check_plain(system, row, value); ends_without(system, row)""",
     "texts": "read_system(text, names=()); show_row(names, row); show_system(system)",
+    "webrings": "inexact_example(system); unfound_example(system); endless_example(system)",
+    "blame": """is_to_blame(system, box, ends); shrunk_blame(system, box, ends); all_blames(system, box);
+        all_loosenings(system, box); least_hits(lots); row_blames(system, box);
+        is_forced(system, box, ends, end, value); all_forcing(system, box, end, value);
+        row_forcing(system, box, end, value)""",
+    "changed": "put_in(system, name, value); doubled(system, name, other); made_one(system, name, other); "
+               "lost_at(system, name)",
+    "court": "court(system); is_single(system); is_verdict(system, value)",
+    "cuts": "flow_or_cut(net, box); is_barring_cut(net, box, value); carried(net, box, at); least_flows(net)",
+    "differences": """arc_of(row); arc_row(size, arc); way_arc(system, way); positive_ring(system);
+        longest_ways(system); barring_way(system, box); open_triple(system); closed_differences(system);
+        least_difference(system, box, one, other)""",
 }
 CLASSES = {
     "errors": {"InvalidSystem": "(at)", "InvalidText": "(at)", "InvalidBox": "(at)", "InvalidPoint": "(at)",
                "InvalidPaper": "(at)", "InvalidNumber": "(word)", "Refused": "(word)"},
     "systems": {"System": "(names, rows)"},
     "nets": {"Net": "(names, lines, needs)"},
+    "court": {"Single": "(sums)", "Gap": "(one, other, at, box, paper)"},
 }
 
 

@@ -7,28 +7,14 @@ from rowalone.bars import holds
 from rowalone.nets import (Net, cut_row, flow_system, gains, is_flow, joined_parts, lacking, price_parts, price_row,
                            shrunk)
 from rowalone.systems import System, system_of
-from tests.helpers import (Anything, Dice, NAMES, any_box, any_fraction, changed, frac, is_in, no_fractions,
-                           odd_values, pair, points_on_grid, raised)
+from tests.helpers import (Anything, Dice, NAMES, any_box, any_fraction, any_net, changed, frac, is_in,
+                           no_fractions, odd_values, pair, points_on_grid, raised)
 
 ABC = ("a", "b", "c")
 LINES = ((0, 1), (1, 2), (0, 2))
 NEEDS = ((None, None), (0, 0), (3, None))
 NET = Net(ABC, LINES, NEEDS)
 FREE = ((None, None),) * 3
-
-
-def any_net(dice):
-    """A net with lines from nodes to themselves, double lines and nodes without a line."""
-    size, nodes = dice.between(1, 6), dice.between(1, 7)
-    lines = tuple((dice.below(nodes), dice.below(nodes)) for _ in range(size))
-    needs = []
-    for _ in range(nodes):
-        low = dice.between(-3, 3) if dice.chance(2, 3) else None
-        high = dice.between(-3, 3) if dice.chance(2, 3) else None
-        if low is not None and high is not None:
-            low, high = min(low, high), max(low, high)
-        needs.append((low, high))
-    return Net(NAMES[:size], lines, tuple(needs))
 
 
 def any_lot(dice, nodes):
