@@ -5,7 +5,7 @@ from rowalone.boxes import box_ends, check_box, is_high_within, is_low_within, o
 from rowalone.fractions import less, negative, weighed
 from rowalone.papers import combined, end_rows, least_in, point_or_paper
 from rowalone.programs import point_or_shares
-from rowalone.systems import whole_sums
+from rowalone.systems import unit, whole_sums
 
 
 def is_to_blame(system, box, ends):
@@ -155,11 +155,11 @@ def _free_point(system, box, end, value):
     at, side = end
     sign = 1 if side == 0 else -1
     wanted = value if side == 0 else negative(value)
-    goal = (*(0,) * at, sign, *(0,) * (len(box) - at - 1))
+    goal = unit(len(box), at, sign)
     word, point, _ = least_in(system, box, goal)
     if word == "endless":
         # One less than the value is beyond it, and there is no least one.
-        beyond = (tuple([-number * wanted[1] for number in goal]), wanted[1] - wanted[0])
+        beyond = (unit(len(box), at, -sign * wanted[1]), wanted[1] - wanted[0])
         return point_or_shares(len(box), [*system.rows, *end_rows(box), beyond])[1]
     return point if word == "least" and less(weighed(goal, point), wanted) else None
 

@@ -5,12 +5,7 @@ from rowalone.errors import InvalidNumber, Refused
 from rowalone.fractions import is_fraction
 from rowalone.kinds import MOST_NAMES, is_name
 from rowalone.papers import elimination_sum
-from rowalone.systems import System, system_of, unknown_of
-
-
-def _without(items, at):
-    """A tuple without the item at a place."""
-    return (*items[:at], *items[at + 1:])
+from rowalone.systems import System, left_out, system_of, unknown_of
 
 
 def put_in(system, name, value):
@@ -23,9 +18,9 @@ def put_in(system, name, value):
     top, bottom = value
     rows = []
     for coefficients, bound in system.rows:
-        numbers = tuple([number * bottom for number in _without(coefficients, at)])
+        numbers = tuple([number * bottom for number in left_out(coefficients, at)])
         rows.append((numbers, bound * bottom - coefficients[at] * top))
-    return system_of(_without(system.names, at), tuple(rows))
+    return system_of(left_out(system.names, at), tuple(rows))
 
 
 def doubled(system, name, other):
@@ -51,8 +46,8 @@ def made_one(system, name, other):
     for coefficients, bound in system.rows:
         numbers = list(coefficients)
         numbers[at] = coefficients[at] + coefficients[place]
-        rows.append((_without(tuple(numbers), place), bound))
-    return system_of(_without(system.names, place), tuple(rows))
+        rows.append((left_out(tuple(numbers), place), bound))
+    return system_of(left_out(system.names, place), tuple(rows))
 
 
 def lost_at(system, name):

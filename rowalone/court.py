@@ -42,7 +42,7 @@ def _gap(system, triple):
     """The Gap for a triple whose eliminated row is no plain sum."""
     one, other, at = triple
     row = eliminated(system.rows[one], system.rows[other], at)
-    # Without coefficients the two rows contradict each other, in each box.
+    # Two rows that leave no coefficients contradict each other in each box.
     box = free_box(system) if row is None else ends_without(system, row)
     paper = [(0, 1)] * len(system.rows)
     paper[one] = (abs(system.rows[other][0][at]), 1)

@@ -71,22 +71,28 @@ def way_arc(system, way):
 def _ring_or_ways(nodes, arcs):
     """("ring", way) with some plain ring of a length above 0, or ("ways", ways) with the
     greatest length from a node to another one, and some plain way that has it."""
-    ways = {}
-    for number, (one, other, length) in enumerate(arcs):
-        if _is_longer(ways, one, other, length):
-            ways[(one, other)] = (length, (number,))
+    ways = _arc_ways(arcs)
     for middle in range(nodes):
         for one in range(nodes):
             for other in range(nodes):
                 if (one, middle) in ways and (middle, other) in ways:
                     length = plus(ways[(one, middle)][0], ways[(middle, other)][0])
                     way = (*ways[(one, middle)][1], *ways[(middle, other)][1])
-                    # Up to here no ring below is above 0, so what is longer is plain.
+                    # Rings found earlier are not above 0, so what is longer comes to no node twice.
                     if one == other and length[0] > 0:
                         return ("ring", way)
                     if one != other and _is_longer(ways, one, other, length):
                         ways[(one, other)] = (length, way)
     return ("ways", ways)
+
+
+def _arc_ways(arcs):
+    """For each two nodes with an arc the greatest length of one, and the way of this arc alone."""
+    ways = {}
+    for number, (one, other, length) in enumerate(arcs):
+        if _is_longer(ways, one, other, length):
+            ways[(one, other)] = (length, (number,))
+    return ways
 
 
 def _is_longer(ways, one, other, length):
@@ -129,14 +135,12 @@ def open_triple(system):
     """The first triple whose eliminated row is no plain sum of the system, None if there is none."""
     arcs = _arcs(system)
     ground = len(system.names)
-    lengths = {}
-    for one, other, length in arcs:
-        if (one, other) not in lengths or less(lengths[(one, other)], length):
-            lengths[(one, other)] = length
+    lengths = {nodes: length for nodes, (length, _) in _arc_ways(arcs).items()}
     for triple in eliminations(system):
-        one, middle, length = arcs[triple[1]]
-        other = arcs[triple[0]][1]
-        if not _is_told(lengths, ground, (one, other, plus(length, arcs[triple[0]][2]))):
+        # The row with the negative coefficient has the arc that ends at the unknown.
+        _, other, further = arcs[triple[0]]
+        one, _, length = arcs[triple[1]]
+        if not _is_told(lengths, ground, (one, other, plus(length, further))):
             return triple
     return None
 

@@ -4,7 +4,7 @@ from rowalone.boxes import check_box, check_point, in_box, is_point
 from rowalone.errors import Refused
 from rowalone.fractions import less, minus, plus, times
 from rowalone.kinds import is_name_lot, is_number, is_whole
-from rowalone.systems import system_of
+from rowalone.systems import left_out, system_of
 
 MOST_NODES = 7
 
@@ -175,12 +175,7 @@ def lacking(net, at):
     """The net without a line."""
     if len(net.names) == 1:
         raise Refused("names")
-    return Net(_left_out(net.names, at), _left_out(net.lines, at), net.needs)
-
-
-def _left_out(items, at):
-    """A tuple without the item at a place."""
-    return (*items[:at], *items[at + 1:])
+    return Net(left_out(net.names, at), left_out(net.lines, at), net.needs)
 
 
 def shrunk(net, at):
@@ -195,7 +190,7 @@ def shrunk(net, at):
     lines = []
     for line in less_one.lines:
         lines.append(tuple([_node_after(node, first, second) for node in line]))
-    return Net(less_one.names, tuple(lines), _left_out(tuple(needs), second))
+    return Net(less_one.names, tuple(lines), left_out(tuple(needs), second))
 
 
 def _node_after(node, first, second):

@@ -6,7 +6,7 @@ from rowalone.eliminations import joined_rows
 from rowalone.errors import InvalidPaper
 from rowalone.fractions import is_fraction, less, weighed
 from rowalone.programs import least_over, point_or_shares
-from rowalone.systems import least_form, whole_sums
+from rowalone.systems import least_form, unit, whole_sums
 
 
 def check_combination(system, value):
@@ -74,12 +74,10 @@ def end_rows(box):
     """The rows of the ends of a box."""
     rows = []
     for at, (low, high) in enumerate(box):
-        before = (0,) * at
-        after = (0,) * (len(box) - at - 1)
         if low is not None:
-            rows.append(((*before, low[1], *after), low[0]))
+            rows.append((unit(len(box), at, low[1]), low[0]))
         if high is not None:
-            rows.append(((*before, -high[1], *after), -high[0]))
+            rows.append((unit(len(box), at, -high[1]), -high[0]))
     return rows
 
 

@@ -25,6 +25,16 @@ class System:
         return isinstance(other, System) and self.names == other.names and self.rows == other.rows
 
 
+def unit(size, at, number):
+    """The coefficients with a number at one place and 0 at all others."""
+    return (*(0,) * at, number, *(0,) * (size - at - 1))
+
+
+def left_out(items, at):
+    """A tuple without the item at a place."""
+    return (*items[:at], *items[at + 1:])
+
+
 def common_divisor(numbers):
     """The greatest number that divides all of some integers, 0 if all are 0."""
     divisor = 0

@@ -220,13 +220,3 @@ def is_plain_in_python(system, numbers):
 def without(items, at):
     """A tuple without the item at a place."""
     return items[:at] + items[at + 1:]
-
-
-def end_with(dice, low, high):
-    """Some fraction between two ends, perhaps one of them."""
-    if low is None and high is None:
-        return any_fraction(dice, 9)
-    if low is None or high is None:
-        end = frac(low if high is None else high)
-        return pair(end + dice.below(4) * (1 if high is None else -1))
-    return pair(frac(low) + (frac(high) - frac(low)) * dice.below(5) / 4)

@@ -1,7 +1,7 @@
 """Print what many calls return, so that the results of two Pythons can be compared line by line."""
 
 from rowalone import (bars, blame, boxes, changed, court, cuts, differences, eliminations, equations, fractions, nets,
-                      papers, systems, texts, webrings, webs)
+                      papers, passes, patterns, ranges, rewriting, rings, systems, texts, together, webrings, webs)
 from tests.helpers import Dice, NAMES, any_box, any_fraction, any_net, any_numbers, any_row, any_system, odd_values
 
 
@@ -38,6 +38,10 @@ def tell_values():
             tell(court.is_verdict, system, verdict)
         tell(cuts.is_barring_cut, nets.Net(("x",), ((0, 1),), ((1, 1), (0, 0))), ((None, None),), value)
         tell(differences.way_arc, systems.System(("x",), (((1,), 0),)), value)
+        tell(ranges.check_least, system, ((None, None),) * 2, (1, 1), value)
+        tell(passes.passes, system, ((None, None),) * 2, value)
+        tell(patterns.outer_rows, system, value)
+        tell(rings.is_barring_ring, nets.Net(("x",), ((0, 0),), ((0, 0),)), (((1, 1), None),), value)
         tell(changed.made_one, system, "a", value)
 
 
@@ -132,6 +136,47 @@ def tell_cuts_and_differences(dice, size):
     tell(differences.least_difference, system, box, 0, size)
 
 
+def tell_ranges_and_passes(dice, size):
+    system = any_system(dice, size, dice.between(0, 5), 2, 2)
+    box, coefficients = any_box(dice, size, 5, 6), tuple(dice.between(-2, 2) for _ in range(size))
+    numbers = any_numbers(dice, len(system.rows), 3)
+    tell(ranges.shown, system, box, coefficients, numbers)
+    for call in (ranges.least_sum, ranges.row_bound, ranges.plain_bound):
+        tell(call, system, box, coefficients)
+    for call in (ranges.exact_ranges, ranges.inexact, passes.passed, passes.rests, passes.bounded_ends):
+        tell(call, system, box)
+    tell(passes.passes, system, box, 4)
+    tell(passes.run, system, box, tuple(range(len(system.rows))) * 2)
+    tell(passes.turned_top, any_row(dice, size, 2, 2), box, 0)
+    tell(passes.center, box)
+    tell(patterns.outer_rows, system, tuple(dice.between(-1, 1) for _ in range(size)))
+    verdict = court.court(system)
+    if isinstance(verdict, court.Single):
+        tell(rewriting.rewritten, system, verdict, numbers)
+        word, paper = papers.point_or_paper(system, box)
+        if word == "paper":
+            tell(rewriting.barring_row, system, verdict, box, paper)
+    else:
+        tell(rewriting.crossed_box, system, verdict)
+
+
+def tell_rings_and_systems_together(dice):
+    net = any_net(dice)
+    size = len(net.names)
+    point = tuple((dice.between(-1, 1), 1) for _ in range(size))
+    tell(rings.all_rings, net)
+    tell(rings.ring_parts, net, point)
+    tell(rings.heights_or_ring, net, any_box(dice, size, 2, 9))
+    tell(rings.least_rises, net)
+    tell(rings.ring_or_cut, net, tuple(dice.between(-1, 2) for _ in range(size)), dice.below(size))
+    one, other = (any_system(dice, 3, dice.between(0, 4), 2, 2) for _ in range(2))
+    apart, glued = (systems.System(names, other.rows) for names in (("x", "y", "z"), ("c", "y", "z")))
+    tell(together.side_by_side, one, apart)
+    tell(together.name_parts, one)
+    tell(together.glued, one, glued)
+    tell(together.swept, (one, glued), any_box(dice, 5, 4, 7))
+
+
 def main():
     tell_values()
     dice = Dice(7)
@@ -142,6 +187,8 @@ def main():
         tell_equations_and_nets(dice, size)
         tell_verdicts_and_blame(dice, size)
         tell_cuts_and_differences(dice, size)
+        tell_ranges_and_passes(dice, size)
+        tell_rings_and_systems_together(dice)
 
 
 if __name__ == "__main__":

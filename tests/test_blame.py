@@ -97,6 +97,16 @@ class ToBlame(unittest.TestCase):
         self.assertIsNone(shrunk_blame(ends=(), box=BOX, system=CHAIN))
         self.assertIsNone(shrunk_blame(System(("x",), ()), ((ZERO, ZERO),), ((0, 0), (0, 1))))
 
+    def test_shrunk_by_other_rows(self):
+        # The first row is broken by three lows, but the second one by two of them.
+        system = read_system("-x - y - z >= 1\n-x - y >= 1")
+        box = ((ZERO, None),) * 3
+        self.assertEqual(shrunk_blame(system, box, box_ends(box)), ((0, 0), (1, 0)))
+        system = read_system("-x - y - z >= 1\n-x - z >= 1\n-y >= 4")
+        box = ((ZERO, None), ((-3, 1), None), (ZERO, None))
+        self.assertEqual(shrunk_blame(system, box, box_ends(box)[:2]), ((1, 0),))
+        self.assertEqual(shrunk_blame(system, box, ((0, 0), (2, 0))), ((0, 0), (2, 0)))
+
     def test_systems_without_a_solution(self):
         system = read_system("x + y >= 1\nx + y <= 0")
         for box in (free_box(system), ((ZERO, ZERO), (None, (1, 1)))):

@@ -235,7 +235,7 @@ class Court(unittest.TestCase):
                     return system
 
     def test_one_of_both_is_right(self):
-        # A right Single and a right Gap exclude each other: the one is refused by a row that is left out.
+        # Over a system with a right Single, a box with such a paper is barred by a row.
         dice = Dice(305)
         seen = 0
         while seen < 40:

@@ -219,6 +219,10 @@ class LeastFlows(unittest.TestCase):
     def test_more_than_60_rows(self):
         lines = tuple((0, node) for node in range(1, 7))
         self.assertEqual(raised(least_flows, Net(NAMES, lines, ((-2, 3),) * 7)), ("Refused", "wide"))
+        lines = ((0, 1), (1, 2), (1, 3), (3, 4), (1, 5), (1, 6))
+        needs = ((3, 4), (3, 4), (-1, 2), (-4, -2), (-2, None), (-1, None), (-4, -1))
+        self.assertEqual(len(least_flows(Net(NAMES, lines, needs)).rows), 60)
+        lines = tuple((0, node) for node in range(1, 7))
         # With lows and highs that are equal only the cuts with a joined rest are left.
         self.assertEqual(len(least_flows(Net(NAMES, lines, ((-6, -6),) + ((1, 1),) * 6)).rows), 12)
 

@@ -44,6 +44,17 @@ FUNCTIONS = {
     "differences": """arc_of(row); arc_row(size, arc); way_arc(system, way); positive_ring(system);
         longest_ways(system); barring_way(system, box); open_triple(system); closed_differences(system);
         least_difference(system, box, one, other)""",
+    "passes": """passed(system, box); passes(system, box, most); run(system, box, numbers); rests(system, box);
+        turned_top(row, box, at); center(box); bounded_ends(system, box)""",
+    "patterns": "outer_rows(system, signs)",
+    "ranges": """shown(system, box, coefficients, numbers); least_sum(system, box, coefficients);
+        check_least(system, box, coefficients, value); exact_ranges(system, box); inexact(system, box);
+        row_bound(system, box, coefficients); plain_bound(system, box, coefficients)""",
+    "rewriting": """rewritten(system, single, numbers); barring_row(system, single, box, paper);
+        crossed_box(system, gap)""",
+    "rings": """all_rings(net); ring_parts(net, point); heights_or_ring(net, box); is_barring_ring(net, box, value);
+        least_rises(net); ring_or_cut(net, ways, at)""",
+    "together": "side_by_side(one, other); name_parts(system); glued(one, other); swept(systems, box)",
 }
 CLASSES = {
     "errors": {"InvalidSystem": "(at)", "InvalidText": "(at)", "InvalidBox": "(at)", "InvalidPoint": "(at)",
