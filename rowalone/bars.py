@@ -98,16 +98,16 @@ def narrowed(row, box):
 def told(system, box):
     """For each unknown the greatest low and the least high that a row tells."""
     check_box(system, box)
-    return tuple([_told_ends(system, box, at)[0] for at in range(len(box))])
+    return tuple([told_ends(system, box, at)[0] for at in range(len(box))])
 
 
 def reasons(system, box):
     """For each unknown the first rows that tell its told low and its told high."""
     check_box(system, box)
-    return tuple([_told_ends(system, box, at)[1] for at in range(len(box))])
+    return tuple([told_ends(system, box, at)[1] for at in range(len(box))])
 
 
-def _told_ends(system, box, at):
+def told_ends(system, box, at):
     """The told ends of one unknown, and the first rows that tell them."""
     low, high = box[at]
     one = None
@@ -128,7 +128,7 @@ def crossing(system, box):
     if barring(system, box):
         raise Refused("barred")
     for at in range(len(box)):
-        (low, high), (one, other) = _told_ends(system, box, at)
+        (low, high), (one, other) = told_ends(system, box, at)
         if low is not None and high is not None and less(high, low):
             return (at, times(plus(low, high), fraction_of(1, 2)), one, other)
     return None

@@ -2,9 +2,8 @@
 
 from rowalone.bars import bars_box, told_by, used_ends
 from rowalone.boxes import box_ends, check_box, is_high_within, is_low_within, only_ends, with_range
-from rowalone.fractions import less, negative, weighed
-from rowalone.papers import combined, end_rows, least_in, point_or_paper
-from rowalone.programs import point_or_shares
+from rowalone.papers import combined, end_rows, point_or_paper
+from rowalone.programs import point_beyond
 from rowalone.systems import unit, whole_sums
 
 
@@ -154,14 +153,8 @@ def _free_point(system, box, end, value):
     """Some solution in a box that is beyond an end with a value, None if there is none."""
     at, side = end
     sign = 1 if side == 0 else -1
-    wanted = value if side == 0 else negative(value)
-    goal = unit(len(box), at, sign)
-    word, point, _ = least_in(system, box, goal)
-    if word == "endless":
-        # One less than the value is beyond it, and there is no least one.
-        beyond = (unit(len(box), at, -sign * wanted[1]), wanted[1] - wanted[0])
-        return point_or_shares(len(box), [*system.rows, *end_rows(box), beyond])[1]
-    return point if word == "least" and less(weighed(goal, point), wanted) else None
+    row = (unit(len(box), at, sign * value[1]), sign * value[0])
+    return point_beyond(len(box), [*system.rows, *end_rows(box)], row)
 
 
 def row_forcing(system, box, end, value):

@@ -3,9 +3,9 @@
 from rowalone.bars import bars_box
 from rowalone.boxes import check_box
 from rowalone.eliminations import joined_rows
-from rowalone.errors import InvalidPaper
+from rowalone.errors import InvalidPaper, Refused
 from rowalone.fractions import is_fraction, less, weighed
-from rowalone.programs import least_over, point_or_shares
+from rowalone.programs import least_over, point_beyond, point_or_shares
 from rowalone.systems import least_form, unit, whole_sums
 
 
@@ -85,6 +85,12 @@ def least_in(system, box, coefficients):
     """The least sum of coefficients at solutions in a box, as `least_over` tells it; of the
     shares those of the rows of the system come first."""
     return least_over(len(system.names), [*system.rows, *end_rows(box)], coefficients)
+
+
+def check_solution(system):
+    """Raise an error if a system has no solution."""
+    if point_or_shares(len(system.names), system.rows)[0] == "shares":
+        raise Refused("none")
 
 
 def point_or_paper(system, box):
@@ -180,14 +186,9 @@ def check_plain(system, row, value):
 def ends_without(system, row):
     """Some box that a row bars and no row of the system, None if the row is a plain sum."""
     part = _conforming(system.rows, row)
-    word, point, _ = _least_kept(system.rows, part, row)
-    if _is_reached(word, point, row):
+    point = point_beyond(len(row[0]), [system.rows[at] for at in part], row)
+    if point is None:
         return None
-    if word == "endless":
-        # Some point that keeps the rows has a sum below the bound.
-        contrary = (tuple([-number for number in row[0]]), 1 - row[1])
-        rows = [system.rows[at] for at in part] + [contrary]
-        point = point_or_shares(len(system.names), rows)[1]
     box = []
     for number, value in zip(row[0], point):
         box.append((value if number < 0 else None, value if number > 0 else None))

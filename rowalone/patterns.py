@@ -4,7 +4,7 @@ from rowalone.cones import cone_of, halved, levelled
 from rowalone.equations import echelon
 from rowalone.errors import Refused
 from rowalone.kinds import is_whole
-from rowalone.programs import point_or_shares
+from rowalone.papers import check_solution
 from rowalone.systems import least_form, unit
 
 
@@ -13,8 +13,7 @@ def outer_rows(system, signs):
     size = len(system.names)
     if not _are_signs(signs, size):
         raise Refused("signs")
-    if point_or_shares(size, system.rows)[0] == "shares":
-        raise Refused("none")
+    check_solution(system)
     # A row that holds is a sum of rows of the system and of 0 >= -1, each a vector with the
     # bound, times -1, as its last number.
     vectors = [(*coefficients, -bound) for coefficients, bound in system.rows]

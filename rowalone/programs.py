@@ -1,6 +1,6 @@
 """Least sums over the points that keep some rows, by exchanges in a table of integers."""
 
-from rowalone.fractions import fraction_of
+from rowalone.fractions import fraction_of, less, weighed
 
 
 class Table:
@@ -138,6 +138,17 @@ def least_over(size, rows, goal):
         if line is None:
             return ("endless", table.point(), None)
         table.exchange(line, column)
+
+
+def point_beyond(size, rows, row):
+    """Some point that keeps all rows and not another one, None if there is none."""
+    coefficients, bound = row
+    word, point, _ = least_over(size, rows, coefficients)
+    if word == "endless":
+        # One less than the bound is below it, and there is no least sum.
+        contrary = (tuple([-number for number in coefficients]), 1 - bound)
+        return point_or_shares(size, [*rows, contrary])[1]
+    return point if word == "least" and less(weighed(coefficients, point), (bound, 1)) else None
 
 
 def _make_kept(table):

@@ -29,7 +29,7 @@ def _shown(system, box, coefficients, numbers):
     return total
 
 
-def _check_not_empty(system, box):
+def check_not_empty(system, box):
     """Raise an error if any value is no box, or a box without a solution."""
     if point_or_paper(system, box)[0] == "paper":
         raise Refused("empty")
@@ -64,8 +64,13 @@ def check_least(system, box, coefficients, value):
 
 def exact_ranges(system, box):
     """For each unknown the least and the greatest fraction at solutions in a box."""
-    _check_not_empty(system, box)
-    return tuple([(_end(system, box, at, 1), _end(system, box, at, -1)) for at in range(len(box))])
+    check_not_empty(system, box)
+    return tuple([exact_range(system, box, at) for at in range(len(box))])
+
+
+def exact_range(system, box, at):
+    """The same for one unknown of a box that has a solution."""
+    return (_end(system, box, at, 1), _end(system, box, at, -1))
 
 
 def _end(system, box, at, sign):
@@ -85,7 +90,7 @@ def inexact(system, box):
 
 def row_bound(system, box, coefficients):
     """The greatest sum that a combination of at most one row shows, with one, None if none shows any."""
-    _check_not_empty(system, box)
+    check_not_empty(system, box)
     none = ((0, 1),) * len(system.rows)
     tried = [none]
     for number, row in enumerate(system.rows):
@@ -107,7 +112,7 @@ def _best(tried):
 
 def plain_bound(system, box, coefficients):
     """The greatest sum that a plain combination shows, with one, None if none shows any."""
-    _check_not_empty(system, box)
+    check_not_empty(system, box)
     return _best([_part_bound(system, box, coefficients, part) for part in _plain_parts(system)])
 
 

@@ -148,6 +148,14 @@ def system_of(names, rows):
     for coefficients, bound in rows:
         if bound > 0 and not any(coefficients):
             raise Refused("zero")
+    kept = thinned(rows)
+    if len(kept) > MOST_ROWS:
+        raise Refused("wide")
+    return System(names, kept)
+
+
+def thinned(rows):
+    """The lot of any rows in least form, without those that follow from others or have no coefficients."""
     bounds = {}
     for coefficients, bound in rows:
         if any(coefficients):
@@ -157,12 +165,10 @@ def system_of(names, rows):
             value = fraction_of(bound, divisor)
             if pattern not in bounds or less(bounds[pattern], value):
                 bounds[pattern] = value
-    if len(bounds) > MOST_ROWS:
-        raise Refused("wide")
     kept = []
     for pattern, value in bounds.items():
         kept.append((tuple([number * value[1] for number in pattern]), value[0]))
-    return System(names, tuple(sorted(kept)))
+    return tuple(sorted(kept))
 
 
 def unknown_of(system, name):

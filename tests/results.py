@@ -1,15 +1,18 @@
 """Print what many calls return, so that the results of two Pythons can be compared line by line."""
 
-from rowalone import (bars, blame, boxes, changed, court, cuts, differences, eliminations, equations, fractions, nets,
-                      papers, passes, patterns, ranges, rewriting, rings, systems, texts, together, webrings, webs)
+from rowalone import (bars, blame, boxes, changed, chosen, closing, court, cuts, differences, eliminations, equations,
+                      fractions, limits, loosening, nets, pairs, papers, passes, patterns, ranges, rewriting, rings,
+                      systems, texts, together, webrings, webs, wholes)
 from tests.helpers import Dice, NAMES, any_box, any_fraction, any_net, any_numbers, any_row, any_system, odd_values
+
+OBJECTS = (systems.System, nets.Net, court.Single, court.Gap, chosen.Stuck, limits.Rest, limits.NoRest, wholes.WholeGap)
 
 
 def shown(value):
     """A result as text, with the attributes of objects; dicts in their order."""
     if isinstance(value, tuple):
         return f"({', '.join(map(shown, value))})"
-    if isinstance(value, (systems.System, nets.Net, court.Single, court.Gap)):
+    if isinstance(value, OBJECTS):
         return f"{type(value).__name__}{sorted(vars(value).items())!r}"
     return repr(value)
 
@@ -43,6 +46,14 @@ def tell_values():
         tell(patterns.outer_rows, system, value)
         tell(rings.is_barring_ring, nets.Net(("x",), ((0, 0),), ((0, 0),)), (((1, 1), None),), value)
         tell(changed.made_one, system, "a", value)
+        tell(closing.tight_point, system, value)
+        for some in (value, limits.Rest(value, value, value), limits.NoRest(value), limits.NoRest(((value, value),) * 3)):
+            tell(limits.is_limit, system, ((None, None),) * 2, some)
+        tell(pairs.is_turning, systems.System(("x",), ()), value)
+        tell(wholes.check_whole_box, system, value)
+        tell(wholes.is_whole_gap, system, wholes.WholeGap(value, value, value, value, value))
+        if not isinstance(value, int) or value < 10:
+            tell(wholes.whole_gap, system, value)
 
 
 def tell_rows(dice, size):
@@ -177,6 +188,40 @@ def tell_rings_and_systems_together(dice):
     tell(together.swept, (one, glued), any_box(dice, 5, 4, 7))
 
 
+def tell_choices_and_closings(dice, size):
+    system = any_system(dice, min(size, 4), dice.between(0, 5), 2, 2)
+    size = len(system.names)
+    box, order = any_box(dice, size, 3, 7), tuple(range(size))[::dice.pick((1, -1))]
+    wishes = tuple(any_fraction(dice, 3) for _ in range(size))
+    for call in (chosen.chosen, chosen.nearest_solution):
+        tell(call, system, box, order, wishes)
+    for call in (closing.needless, closing.trimmed, closing.rounds, closing.least_single, pairs.closed_pairs,
+                 pairs.turning, wholes.rough, wholes.surely_whole, wholes.tightened):
+        tell(call, system)
+    tell(closing.with_row, system, any_row(dice, size, 2, 2))
+    tell(closing.are_alike, system, any_system(dice, size, 3, 1, 1))
+    tell(closing.parting_solution, system, any_system(dice, size, 3, 1, 1))
+    tell(closing.tight_point, system, 0)
+    for call in (limits.limit, limits.ending, wholes.whole_part):
+        tell(call, system, box)
+    tell(limits.is_limit, system, box, limits.limit(system, box))
+    wide = tuple((low and low[0], high and low and low[0] + 3) for low, high in box)
+    tell(wholes.whole_told, system, wide)
+    tell(wholes.chosen_wholes, system, wide, order, tuple(value[0] for value in wishes))
+    tell(wholes.rounded, wishes)
+    tell(wholes.contrary, any_row(dice, size, 4, 4))
+    tell(wholes.whole_gap, system, dice.below(2))
+
+
+def tell_loosenings(dice, size):
+    system, box = any_system(dice, size, dice.between(0, 6), 2, 3), any_box(dice, size, 2, 9)
+    costs = {(at, side): dice.below(4) for at in range(size) for side in (0, 1) if dice.chance(5, 6)}
+    for call in (loosening.cheapest_loosening, loosening.shared_costs, loosening.how_far, loosening.how_far_by_rows,
+                 loosening.even_move, loosening.even_move_by_rows):
+        tell(call, system, box, costs)
+    tell(loosening.moved_box, box, {end: (cost, 3) for end, cost in costs.items() if cost % 3})
+
+
 def main():
     tell_values()
     dice = Dice(7)
@@ -189,6 +234,8 @@ def main():
         tell_cuts_and_differences(dice, size)
         tell_ranges_and_passes(dice, size)
         tell_rings_and_systems_together(dice)
+        tell_choices_and_closings(dice, size)
+        tell_loosenings(dice, size)
 
 
 if __name__ == "__main__":

@@ -55,6 +55,18 @@ FUNCTIONS = {
     "rings": """all_rings(net); ring_parts(net, point); heights_or_ring(net, box); is_barring_ring(net, box, value);
         least_rises(net); ring_or_cut(net, ways, at)""",
     "together": "side_by_side(one, other); name_parts(system); glued(one, other); swept(systems, box)",
+    "chosen": "chosen(system, box, order, wishes); nearest_solution(system, box, order, wishes)",
+    "closing": """least_single(system); parting_solution(one, other); are_alike(one, other); needless(system);
+        trimmed(system); rounds(system); with_row(system, row); tight_point(system, at)""",
+    "limits": "limit(system, box); is_limit(system, box, value); ending(system, box)",
+    "loosening": """cheapest_loosening(system, box, costs); shared_costs(system, box, costs); moved_box(box, moves);
+        how_far(system, box, costs); how_far_by_rows(system, box, costs); even_move(system, box, weights);
+        even_move_by_rows(system, box, weights)""",
+    "pairs": "closed_pairs(system); turning(system); is_turning(system, value)",
+    "wholes": """check_whole_box(system, value); fraction_box(box); whole_part(system, box); rounded(point);
+        tight_row(row); contrary(row); tightened(system); whole_told(system, box);
+        chosen_wholes(system, box, order, wishes); is_whole_gap(system, value); rough(system); surely_whole(system);
+        whole_gap(system, size)""",
 }
 CLASSES = {
     "errors": {"InvalidSystem": "(at)", "InvalidText": "(at)", "InvalidBox": "(at)", "InvalidPoint": "(at)",
@@ -62,6 +74,9 @@ CLASSES = {
     "systems": {"System": "(names, rows)"},
     "nets": {"Net": "(names, lines, needs)"},
     "court": {"Single": "(sums)", "Gap": "(one, other, at, box, paper)"},
+    "chosen": {"Stuck": "(box, at, one, other)"},
+    "limits": {"Rest": "(box, rows, weights)", "NoRest": "(numbers)"},
+    "wholes": {"WholeGap": "(one, other, at, value, box)"},
 }
 
 
