@@ -87,9 +87,14 @@ def least_in(system, box, coefficients):
     return least_over(len(system.names), [*system.rows, *end_rows(box)], coefficients)
 
 
+def has_solution(system):
+    """Whether a system has a solution."""
+    return point_or_shares(len(system.names), system.rows)[0] == "point"
+
+
 def check_solution(system):
     """Raise an error if a system has no solution."""
-    if point_or_shares(len(system.names), system.rows)[0] == "shares":
+    if not has_solution(system):
         raise Refused("none")
 
 

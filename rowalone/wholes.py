@@ -142,13 +142,9 @@ def is_whole_gap(system, value):
     low, high = value.box[value.at]
     below = (low, value.value if high is None else min(high, value.value))
     above = (value.value + 1 if low is None else max(low, value.value + 1), high)
-    return (_leaves_nothing(system.rows[value.one], value.box, value.at, below)
-            and _leaves_nothing(system.rows[value.other], value.box, value.at, above))
-
-
-def _leaves_nothing(row, box, at, ends):
-    """Whether no whole point in a box with other ends for one unknown keeps a row."""
-    return _is_crossed(ends) or bars_box(row, fraction_box(with_range(box, at, ends)))
+    # If one part has no points, the other one is the whole box, which no row bars.
+    return (bars_box(system.rows[value.one], fraction_box(with_range(value.box, value.at, below)))
+            and bars_box(system.rows[value.other], fraction_box(with_range(value.box, value.at, above))))
 
 
 def rough(system):

@@ -114,6 +114,12 @@ def any_system(dice, size, many, limit, bound):
     return system_of(NAMES[:size], tuple(any_row(dice, size, limit, bound) for _ in range(many)))
 
 
+def loose_system(dice, size, many, limit, bound):
+    """A system in which all points near 0 are solutions."""
+    rows = (any_row(dice, size, limit, bound) for _ in range(many))
+    return system_of(NAMES[:size], tuple((numbers, -abs(number) - 1) for numbers, number in rows))
+
+
 def any_net(dice, most=6, limit=3, part=2):
     """A net with lines from nodes to themselves, double lines and nodes without a line."""
     size, nodes = dice.between(1, most), dice.between(1, 7)

@@ -1,8 +1,9 @@
 """Print what many calls return, so that the results of two Pythons can be compared line by line."""
 
-from rowalone import (bars, blame, boxes, changed, chosen, closing, court, cuts, differences, eliminations, equations,
-                      fractions, limits, loosening, nets, pairs, papers, passes, patterns, ranges, rewriting, rings,
-                      systems, texts, together, webrings, webs, wholes)
+from rowalone import (bars, blame, boxes, changed, checker, chosen, closing, counting, court, cuts, differences,
+                      eliminations, equations, forget, fractions, learning, limits, live, loosening, mixing, nets, pairs,
+                      papers, passes, patterns, ranges, rewriting, rings, systems, texts, together, webrings, webs,
+                      wholes)
 from tests.helpers import Dice, NAMES, any_box, any_fraction, any_net, any_numbers, any_row, any_system, odd_values
 
 OBJECTS = (systems.System, nets.Net, court.Single, court.Gap, chosen.Stuck, limits.Rest, limits.NoRest, wholes.WholeGap)
@@ -22,7 +23,7 @@ def tell(call, *values):
         result = shown(call(*values))
     except ValueError as error:
         result = f"{type(error).__name__} {sorted(vars(error).items())!r}"
-    print(call.__module__, call.__name__, result)
+    print(getattr(call, "__module__", ""), call.__name__, result)
 
 
 def tell_values():
@@ -52,6 +53,19 @@ def tell_values():
         tell(pairs.is_turning, systems.System(("x",), ()), value)
         tell(wholes.check_whole_box, system, value)
         tell(wholes.is_whole_gap, system, wholes.WholeGap(value, value, value, value, value))
+        tell(counting.whole_at, system, ((0, 3), (0, 3)), value)
+        tell(forget.choice_box, system, value)
+        tell(forget.struck, system, value)
+        tell(learning.is_outer, system, value)
+        tell(learning.lesson, system, value)
+        tell(checker.check_claim, value)
+        tell(checker.check_claim, ("verdict", system, value))
+        alive = live.Live(system, ((None, None),) * 2)
+        tell(alive.put_end, value, value, value)
+        tell(alive.put_end, "a", value, value)
+        tell(alive.put_end, "a", 0, value)
+        tell(alive.put_row, value)
+        tell(alive.strike_row, value)
         if not isinstance(value, int) or value < 10:
             tell(wholes.whole_gap, system, value)
 
@@ -222,6 +236,51 @@ def tell_loosenings(dice, size):
     tell(loosening.moved_box, box, {end: (cost, 3) for end, cost in costs.items() if cost % 3})
 
 
+def tell_forgetting_and_mixing(dice, size):
+    system = any_system(dice, min(size, 4), dice.between(0, 5), dice.pick((1, 2)), 2)
+    size = len(system.names)
+    names = tuple(name for name in system.names if dice.chance(1, 2))
+    tell(forget.carried_on, system, tuple(any_fraction(dice, 2) if dice.chance(1, 2) else None for _ in range(size)))
+    for call in (forget.stuck_choice, mixing.difference_hull, mixing.mixing_failure, mixing.median_failure,
+                 learning.unlearned):
+        tell(call, system)
+    tell(forget.struck, system, names)
+    tell(forget.forgotten, system, names)
+    points = tuple(tuple(any_fraction(dice, 3) for _ in range(size)) for _ in range(3))
+    tell(mixing.mixed, points[0], points[1], (1, 2))
+    tell(mixing.median, *points)
+    box = tuple(sorted((dice.between(-3, 3), dice.between(-3, 3))) for _ in range(size))
+    box = tuple((low, high) for low, high in box)
+    tell(counting.whole_count, system, box)
+    tell(counting.whole_solutions, system, box)
+    tell(counting.whole_at, system, box, dice.below(9))
+    tell(counting.whole_below, system, box, (0,) * size)
+
+
+def tell_learning_and_claims(dice, size):
+    system = any_system(dice, min(size, 4), dice.between(0, 5), dice.pick((1, 2)), 2)
+    size = len(system.names)
+    box, order = any_box(dice, size, 3, 8), tuple(range(size))[::dice.pick((1, -1))]
+    wishes = tuple(any_fraction(dice, 3) for _ in range(size))
+    for row in system.rows[:2]:
+        tell(learning.is_outer, system, row)
+        tell(learning.lesson, system, row)
+    tell(learning.learned_row, system, box)
+    tell(learning.taught, system, box, order, wishes)
+    claims = checker.gathered(system, box)
+    tell(checker.gathered, system, box)
+    tell(checker.concluded, system, any_box(dice, size, 3, 8), claims)
+    alive = live.Live(system, box)
+    for _ in range(12):
+        at = dice.below(size)
+        call, *values = dice.pick(((alive.put_end, system.names[at], dice.below(2), any_fraction(dice, 3)), (alive.undo,),
+                                   (alive.put_row, any_row(dice, size, 1, 1)), (alive.strike_row, dice.below(4)),
+                                   (alive.learn,), (alive.solve, order, wishes)))
+        tell(call, *values)
+        for call in (alive.changes, alive.given, alive.ends_now, alive.learned, alive.present, alive.steps_back):
+            tell(call)
+
+
 def main():
     tell_values()
     dice = Dice(7)
@@ -236,6 +295,8 @@ def main():
         tell_rings_and_systems_together(dice)
         tell_choices_and_closings(dice, size)
         tell_loosenings(dice, size)
+        tell_forgetting_and_mixing(dice, size)
+        tell_learning_and_claims(dice, size)
 
 
 if __name__ == "__main__":

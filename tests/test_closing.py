@@ -11,8 +11,8 @@ from rowalone.papers import plain_sum, point_or_paper
 from rowalone.patterns import outer_rows
 from rowalone.systems import System, follows, least_form, system_of
 from rowalone.texts import read_system, show_system
-from tests.helpers import (Anything, Dice, NAMES, any_row, any_system, is_kept, odd_values, raised, sum_at, wide_rows,
-                           without)
+from tests.helpers import (Anything, Dice, NAMES, any_row, any_system, is_kept, loose_system, odd_values, raised, sum_at,
+                           wide_rows, without)
 
 ROAD = read_system("a - b >= 1\nb - c >= 1\nc - d >= 1")
 BARRED = read_system("x >= 1\nx <= 0")
@@ -162,8 +162,8 @@ class Least(unittest.TestCase):
         self.assertIn(((1, 0, 0, 0, 0, -1), 10), least.rows)
         self.assertEqual([len(item.rows) for item in rounds(chain)], [5, 9, 14, 15])
         dice = Dice(514)
-        wide = any_system(dice, 6, 60, 10 ** 3, -10 ** 4)
-        self.assertEqual(raised(least_single, wide), ("Refused", "wide" if has_solution(wide) else "none"))
+        self.assertEqual(raised(least_single, loose_system(dice, 6, 60, 10 ** 3, 10 ** 4)), ("Refused", "wide"))
+        self.assertEqual(raised(least_single, any_system(dice, 6, 60, 2, 3)), ("Refused", "none"))
 
 
 class Needless(unittest.TestCase):

@@ -6,6 +6,7 @@ import inspect
 import os
 import unittest
 
+from rowalone.live import Live
 from rowalone.systems import System
 
 FOLDER = os.path.join(os.path.dirname(os.path.dirname(os.path.abspath(__file__))), "rowalone")
@@ -67,6 +68,15 @@ FUNCTIONS = {
         tight_row(row); contrary(row); tightened(system); whole_told(system, box);
         chosen_wholes(system, box, order, wishes); is_whole_gap(system, value); rough(system); surely_whole(system);
         whole_gap(system, size)""",
+    "counting": """whole_count(system, box); whole_solutions(system, box); whole_at(system, box, index);
+        whole_below(system, box, point)""",
+    "forget": """choice_box(system, choice); carried_on(system, choice); stuck_choice(system); struck(system, names);
+        forgotten(system, names)""",
+    "learning": """unlearned(system); is_outer(system, row); learned_row(system, box); lesson(system, row);
+        taught(system, box, order, wishes)""",
+    "mixing": """difference_hull(system); mixed(point, other, shift); mixing_failure(system); median(one, two, three);
+        median_failure(system)""",
+    "checker": "claim_words(); check_claim(claim); concluded(system, box, claims); gathered(system, box)",
 }
 CLASSES = {
     "errors": {"InvalidSystem": "(at)", "InvalidText": "(at)", "InvalidBox": "(at)", "InvalidPoint": "(at)",
@@ -77,7 +87,11 @@ CLASSES = {
     "chosen": {"Stuck": "(box, at, one, other)"},
     "limits": {"Rest": "(box, rows, weights)", "NoRest": "(numbers)"},
     "wholes": {"WholeGap": "(one, other, at, value, box)"},
+    "live": {"Live": "(system, box)"},
 }
+METHODS = {"put_end": "(self, name, side, value)", "put_row": "(self, row)", "strike_row": "(self, number)",
+           "undo": "(self)", "changes": "(self)", "given": "(self)", "ends_now": "(self)", "learned": "(self)",
+           "present": "(self)", "learn": "(self)", "solve": "(self, order, wishes)", "steps_back": "(self)"}
 
 
 class Interface(unittest.TestCase):
@@ -104,6 +118,10 @@ class Interface(unittest.TestCase):
                 self.assertEqual(str(inspect.signature(kind)), parameters)
                 self.assertIn("__init__", vars(kind))
         self.assertIn("RowError", self.defined("errors"))
+
+    def test_methods_of_a_live(self):
+        for name, parameters in METHODS.items():
+            self.assertEqual(str(inspect.signature(vars(Live)[name])), parameters)
 
     def test_no_class_is_derived_from_another_one(self):
         for name in sorted(os.listdir(FOLDER)):

@@ -329,6 +329,52 @@ class RightObjects(unittest.TestCase):
                 rows = ((one, other), (other, one))
                 self.assertIs(is_limit(system, FREE, Rest(box, rows, (((1, 1), (1, 1)), ((1, 2), (1, 2))))), False)
 
+        # The ends rest, each is told by the other one, and the weights are heavy enough.
+        system = read_system("2 x - y >= 0\n2 y - x >= 0")
+        one = system.rows.index(((2, -1), 0))
+        rows, weights = ((one, None), (1 - one, None)), ((ONE, None), (ONE, None))
+        lows = ((ZERO, None), (ZERO, None))
+        self.assertIs(rests(system, lows), True)
+        self.assertIs(is_limit(system, FREE, Rest(lows, rows, weights)), False)
+        self.assertIs(is_limit(system, (((-5, 1), None), ((-5, 1), None)), Rest(lows, rows, weights)), True)
+        self.assertIs(is_limit(system, (((-5, 1), None), (None, None)), Rest(lows, rows, weights)), True)
+
+    def test_boxes_that_do_not_rest_or_are_not_within(self):
+        system = System(("x",), (((1,), 1), ((1,), 2)))
+        for low, number, right in ((1, 0, False), (2, 1, True), (2, 0, False), (1, 1, False)):
+            value = Rest((((low, 1), None),), ((number, None),), ((ONE, None),))
+            self.assertIs(is_limit(system, ((None, None),), value), right)
+            self.assertIs(is_limit(system, (((5, 1), None),), value), False)
+            self.assertIs(is_limit(system, ((None, (5, 1)),), value), False)
+
+    def test_weights_from_0_on(self):
+        system = read_system("x - 2 y >= 0\ny - 2 x >= 0")
+        one = system.rows.index(((1, -2), 0))
+        lows, rows = ((ZERO, None), (ZERO, None)), ((one, None), (1 - one, None))
+        box = (((-1, 1), None), ((-1, 1), None))
+        self.assertEqual(limit(system, box).box, box)
+        for weight in ((-1, 1), (-1, 10 ** 9), ZERO, ONE):
+            self.assertIs(is_limit(system, box, Rest(lows, rows, ((weight, None), (weight, None)))), False)
+
+    def test_rows_without_the_unknown(self):
+        system = read_system("y >= 3\nx <= 5")
+        low, high = system.rows.index(((0, 1), 3)), system.rows.index(((-1, 0), -5))
+        box = ((None, None), (None, (3, 1)))
+        found = ((None, (5, 1)), ((3, 1), (3, 1)))
+        for number, right in ((high, True), (low, False)):
+            value = Rest(found, ((None, number), (low, None)), ((None, ONE), (ONE, None)))
+            self.assertIs(is_limit(system, box, value), right)
+
+    def test_more_items(self):
+        right = limit(HALVING, UNIT)
+        more = (None, None)
+        for rows, weights in ((right.rows + (more,), right.weights), (right.rows, right.weights + (more,)),
+                              (tuple(some + (None,) for some in right.rows), right.weights),
+                              (right.rows, tuple(some + (None,) for some in right.weights)),
+                              (right.rows[:1], right.weights), (list(right.rows), right.weights),
+                              (tuple(map(list, right.rows)), right.weights)):
+            self.assertIs(is_limit(HALVING, UNIT, Rest(right.box, rows, weights)), False)
+
     def test_against_the_words(self):
         dice = Dice(526)
         seen = {True: 0, False: 0}

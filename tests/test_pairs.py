@@ -114,10 +114,14 @@ class Pairs(unittest.TestCase):
                 rows.append((tuple(numbers), -2 - (one + other) % 2))
         self.assertEqual(raised(closed_pairs, system_of(NAMES, tuple(rows))), ("Refused", "wide"))
         self.assertEqual(raised(closed_pairs, system_of(NAMES[:5], tuple((row[0][:5], row[1]) for row in rows))), None)
-        # Sixty rows: five unknowns are bound by 50 rows; the sixth one has 10 more.
-        five = [(row[0][:5], row[1]) for row in rows if row[0][5] == 0]
-        closed = closed_pairs(system_of(NAMES[:5], tuple(five)))
-        self.assertEqual(len(closed.rows), 50)
+        # Sixty rows: without those of three pairs of unknowns, which would be needless, there are 12 fewer.
+        apart = [{0, 1}, {2, 3}, {4, 5}]
+        for some, many in ((apart, 60), (apart[:2], None)):
+            left = [(row[0], -2) for row in rows if {at for at, number in enumerate(row[0]) if number} not in some]
+            if many is None:
+                self.assertEqual(raised(closed_pairs, system_of(NAMES, tuple(left))), ("Refused", "wide"))
+            else:
+                self.assertEqual(len(closed_pairs(system_of(NAMES, tuple(left))).rows), many)
 
     def test_sixty_rows(self):
         # The rows of two unknowns are needless.

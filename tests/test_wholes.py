@@ -328,6 +328,7 @@ class WhichSystems(unittest.TestCase):
         self.assertEqual(rough(read_system("2 x - y >= 0\n-x + 3 y >= 0\n-2 x + 2 y >= 1\n-2 y >= 1")), (0, 1))
         self.assertEqual(rough(read_system("2 x >= 1\nx - y >= 0\n-x >= 0\n-5 y >= 2")), ())
         self.assertEqual(rough(system=read_system("2 x >= 1\n-2 x >= 1")), (0,))
+        self.assertEqual(rough(read_system("x >= 1\n-5 x - y >= 1\ny >= 3\n-2 y - x >= 0")), ())
 
     def test_surely_whole(self):
         self.assertIs(surely_whole(LINE), False)
@@ -373,6 +374,9 @@ class WhichSystems(unittest.TestCase):
         # 199 * 100 = 19,900 and 201 * 101 = 20,301; then 91 * 91 * 2 = 16,562 and 120 * 120 * 2 = 28,800.
         self.assertEqual(raised(whole_gap, system=read_system("x - y >= 0\ny - x >= 0"), size=6), None)
         self.assertEqual(raised(whole_gap, read_system("x - y >= 0\ny - x >= 0"), 7), ("Refused", "wide"))
+        # With one unknown 28 boxes up to 3: 17 * 42 * 28 = 19,992 and 24 * 30 * 28 = 20,160.
+        self.assertIsNone(raised(whole_gap, many_bounds(17, 42), 3))
+        self.assertEqual(raised(whole_gap, many_bounds(24, 30), 3), ("Refused", "wide"))
         # Without triples there is nothing to look at, however many boxes there are.
         for size in (0, 1, 10 ** 30):
             self.assertIsNone(whole_gap(System(NAMES, ()), size))
@@ -401,6 +405,14 @@ class WhichSystems(unittest.TestCase):
                 self.assertIn(found.box, lost)
         self.assertGreater(min(seen.values()), 20, seen)
 
+    def test_no_boxes_beyond_the_size(self):
+        # 4 x is 3 y, or one less or more: only where y is 2 or -2 no integer is left.
+        system = read_system("4 x - 3 y >= -1\n4 x - 3 y <= 1")
+        self.assertIsNone(whole_gap(system, 1))
+        found = whole_gap(system, 2)
+        self.assertIn(found.box[1], ((2, 2), (-2, -2)))
+        self.assertIs(is_whole_gap(system, found), True)
+
     def test_gaps_lead_all_orders_to_gaps(self):
         dice = Dice(563)
         checked = 0
@@ -421,6 +433,12 @@ class WhichSystems(unittest.TestCase):
         self.assertIs(is_whole_gap(system, found), True)
         self.assertEqual(whole_told(system, ((0, 1),)), ((1, 0),))
         self.assertEqual(frac(pair(frac((1, 2)))), frac((1, 2)))
+
+
+def many_bounds(lows, highs):
+    """A system of one unknown with so many lows and highs, about 0."""
+    return System(("x",), tuple(sorted([((number + 2,), -1) for number in range(lows)]
+                                       + [((-number - 2,), -1) for number in range(highs)])))
 
 
 def triples_system(more):
