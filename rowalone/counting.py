@@ -1,9 +1,8 @@
 """Whole solutions of a box: how many there are, all of them, and which one has an index."""
 
-from rowalone.bars import barring
 from rowalone.errors import InvalidNumber, Refused
 from rowalone.kinds import is_number
-from rowalone.wholes import fraction_box, whole_told
+from rowalone.wholes import whole_told
 
 MOST_LINES = 10000
 MOST_LISTED = 1000
@@ -12,8 +11,8 @@ MOST_LISTED = 1000
 def _ranges(system, box):
     """For each unknown the least and the greatest integer that rows leave for it, None if there are no solutions."""
     ends = whole_told(system, box)
-    crossed = [low for low, high in ends if low is not None and high is not None and low > high]
-    if crossed or barring(system, fraction_box(box)):
+    # If a row bars the box, the ends that it tells cross.
+    if any([low is not None and high is not None and low > high for low, high in ends]):
         return None
     if any([low is None or high is None for low, high in ends]):
         raise Refused("endless")

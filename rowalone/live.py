@@ -7,7 +7,6 @@ from rowalone.fractions import is_fraction
 from rowalone.kinds import MOST_ROWS, is_number
 from rowalone.learning import learned_row, taught
 from rowalone.outer import is_outer_row
-from rowalone.papers import has_solution
 from rowalone.systems import System, is_row, left_out, unknown_of
 
 
@@ -18,6 +17,7 @@ class Live:
         check_box(system, box)
         # What is given and the box after each change that has not been taken back.
         self._states = [(system, box)]
+        # All rows ever learned: none twice, as a row that is of the least system now is present.
         self._known = []
 
     def put_end(self, name, side, value):
@@ -74,8 +74,6 @@ class Live:
     def learned(self):
         """The lot of the learned rows that are of the least single system of the given rows, and not given."""
         system = self.given()
-        if not has_solution(system):
-            return ()
         return tuple(sorted([row for row in self._known if row not in system.rows and is_outer_row(system, row)]))
 
     def present(self):
@@ -89,17 +87,13 @@ class Live:
         """What the box teaches, which is learned if it is a row."""
         row = learned_row(self.present(), self.ends_now())
         if row is not None:
-            self._keep((row,))
+            self._known.append(row)
         return row
-
-    def _keep(self, rows):
-        """Add learned rows to those of earlier times."""
-        self._known.extend([row for row in rows if row not in self._known])
 
     def solve(self, order, wishes):
         """The solution in the box nearest to the wishes, None if there is none; what it takes is learned."""
         rows, point = taught(self.present(), self.ends_now(), order, wishes)
-        self._keep(rows)
+        self._known.extend(rows)
         return point
 
     def steps_back(self):
@@ -111,7 +105,5 @@ class Live:
 
     def _is_barred(self, system, box):
         """Whether a given row bars a box, or a learned one that the given rows would still have."""
-        if barring(system, box):
-            return True
         rows = [row for row in self._known if bars_box(row, box)]
-        return bool(rows) and has_solution(system) and any([is_outer_row(system, row) for row in rows])
+        return len(barring(system, box)) > 0 or any([is_outer_row(system, row) for row in rows])

@@ -121,8 +121,8 @@ def how_far_by_rows(system, box, costs):
     goal = [costs[end] for end in loose]
     _, point, shares = least_over(len(loose), rows + _from_zero(0, len(loose)), goal)
     numbers = [(0, 1)] * len(system.rows)
-    for (number, (_, bottom), _), share in zip(lacks, shares):
-        numbers[number] = times(share, (bottom, 1))
+    for (number, lack, _), share in zip(lacks, shares):
+        numbers[number] = times(share, (lack[1], 1))
     return (weighed(goal, point), _by_end(loose, point), tuple(numbers))
 
 

@@ -8,7 +8,7 @@ from rowalone.systems import is_row, row_of, unit, whole_sums
 
 
 def is_outer_row(system, row):
-    """Whether any value is a row of the least single system, if the system has a solution.
+    """Whether any value is a row of the least single system; without a solution there is none.
 
     It is so if it holds and its tight solutions differ, in its unknowns, in all directions
     but the one that would change its sum.

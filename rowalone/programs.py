@@ -2,6 +2,8 @@
 
 from rowalone.fractions import fraction_of, less, weighed
 
+QUICK = 200
+
 
 class Table:
     """Rows, and the sum that is asked for, as sums of as many rows as there are unknowns.
@@ -67,6 +69,24 @@ class Table:
                     found = line
         return found
 
+    def worst_line(self):
+        """The line of the row that the point breaks most, None if there is none."""
+        found = None
+        for line, label in enumerate(self.basic):
+            if label >= 0 and self.lines[line][-1] < 0:
+                if found is None or self.lines[line][-1] < self.lines[found][-1]:
+                    found = line
+        return found
+
+    def greatest_column(self, numbers, sign):
+        """The column of the row with the greatest number in a line, times a sign, None if none is above 0."""
+        found = None
+        for column, label in enumerate(self.free):
+            if label >= 0 and sign * numbers[column] > 0:
+                if found is None or sign * numbers[column] > sign * numbers[found]:
+                    found = column
+        return found
+
     def first_column(self, numbers, sign):
         """The column of the first row with a number of this sign in a line, None if there is none."""
         found = None
@@ -130,14 +150,26 @@ def least_over(size, rows, goal):
     for column, label in enumerate(table.free):
         if label < 0 and table.goal[column] != 0:
             return ("endless", table.point(), None)
+    done = 0
     while True:
-        column = table.first_column(table.goal, -1)
+        column = _column(table, table.goal, -1, done)
         if column is None:
             return ("least", table.point(), tuple(table.shares(table.goal, 1)))
         line = table.tight_line(column)
         if line is None:
             return ("endless", table.point(), None)
         table.exchange(line, column)
+        done = done + 1
+
+
+def _column(table, numbers, sign, done):
+    """The column to exchange after so many exchanges.
+
+    The greatest number is mostly the quickest way, but only the first label is sure to end.
+    """
+    if done < QUICK:
+        return table.greatest_column(numbers, sign)
+    return table.first_column(numbers, sign)
 
 
 def point_beyond(size, rows, row):
@@ -152,19 +184,18 @@ def point_beyond(size, rows, row):
 
 
 def _make_kept(table):
-    """Exchange until the point keeps all rows: None, or the line of a row that never is kept.
-
-    Always taking the first label makes the exchanges end.
-    """
+    """Exchange until the point keeps all rows: None, or the line of a row that never is kept."""
     table.place_unknowns()
+    done = 0
     while True:
-        line = table.broken_line()
+        line = table.worst_line() if done < QUICK else table.broken_line()
         if line is None:
             return None
-        column = table.first_column(table.lines[line], 1)
+        column = _column(table, table.lines[line], 1, done)
         if column is None:
             return line
         table.exchange(line, column)
+        done = done + 1
 
 
 def _broken_shares(table, line):

@@ -2,8 +2,10 @@
 
 import unittest
 from fractions import Fraction
+from unittest import mock
 
-from rowalone.programs import least_over, point_or_shares
+from rowalone import programs
+from rowalone.programs import least_over, point_beyond, point_or_shares
 from tests.helpers import Dice, frac, is_kept, sum_at
 
 
@@ -107,6 +109,34 @@ class Programs(unittest.TestCase):
             size = dice.between(2, 5)
             rows = [(numbers, 0) for numbers, _ in any_rows(dice, size, 14, 2)]
             self.check(size, rows, tuple(dice.between(-2, 2) for _ in range(size)))
+
+    def test_points_beyond_a_row(self):
+        dice = Dice(95)
+        seen = {True: 0, False: 0}
+        for _ in range(600):
+            size = dice.between(1, 3)
+            rows = any_rows(dice, size, dice.between(0, 5), 2)
+            row = (tuple(dice.between(-2, 2) for _ in range(size)), dice.between(-3, 3))
+            point = point_beyond(size, rows, row)
+            seen[point is None] += 1
+            if point is None:
+                told, least, _ = least_over(size, rows, row[0])
+                self.assertTrue(told == "none" or (told == "least" and is_kept(row, least)))
+            else:
+                self.check_point(size, rows, point)
+                self.assertFalse(is_kept(row, point))
+        self.assertGreater(min(seen.values()), 100)
+
+    def test_first_labels_alone(self):
+        # After so many exchanges only first labels are taken, which must lead to an end as well.
+        dice = Dice(94)
+        for quick in (0, 1, 3):
+            with mock.patch.object(programs, "QUICK", quick):
+                for _ in range(300):
+                    size = dice.between(1, 4)
+                    rows = any_rows(dice, size, dice.between(0, 9), dice.pick((1, 2, 5)))
+                    rows = [(numbers, 0) for numbers, _ in rows] if dice.chance(1, 3) else rows
+                    self.check(size, rows, tuple(dice.between(-2, 2) for _ in range(size)))
 
 
 if __name__ == "__main__":
