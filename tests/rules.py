@@ -434,6 +434,8 @@ class Checker:
         made = isinstance(node, ast.Call) and isinstance(node.func, ast.Name) and node.func.id in ("set", "frozenset")
         if not made and not isinstance(node, (ast.Set, ast.SetComp)):
             return
+        if isinstance(node, ast.Set) and any(isinstance(one, ast.Starred) for one in node.elts):
+            self.tell(file, node, "L7", "star in a set")
         above = file.above[node]
         call = isinstance(above, ast.Call) and isinstance(above.func, ast.Name) and above.func.id in ("len", "sorted")
         if not isinstance(above, ast.Compare) and not call:
